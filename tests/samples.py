@@ -83,6 +83,22 @@ def random_book(chance, wholes=True):
     return Book(states, sorts, chance.choice(states), rows, worths=worths)
 
 
+def random_wish(chance, book):
+    """A wish of a book, by a chance with a seed."""
+    def some(words):
+        return [chance.choice(words) for _ in range(chance.randint(0, len(words)))]
+    kind = chance.choice(["stand", "stand", "quiet", "lower", "once"])
+    if kind == "stand":
+        return (kind, some(book.sorts()), some(book.sorts()), some(book.states()))
+    return (kind, some(book.sorts())) if kind == "quiet" else (kind,)
+
+
+def with_rows(book, rows, **more):
+    """A book with other rows, all else being the same."""
+    worths = more.get("worths", {state: book.worth(state) for state in book.states()})
+    return Book(more.get("states", book.states()), book.sorts(), book.first(), rows, worths=worths)
+
+
 class SlowDevice:
     """A device that works all out anew from its letters, straight from the words of [9] to [13]."""
 

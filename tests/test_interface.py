@@ -3,7 +3,8 @@
 import inspect
 import unittest
 
-from heldnotes import books, devices
+from heldnotes import books, comparing, devices, standings, wishes
+from tests.samples import example_book
 
 METHODS = {
     books.Book: {
@@ -17,6 +18,15 @@ METHODS = {
         "held": ["self", "key"], "met": ["self"], "badge": ["self"], "error": ["self"], "letters": ["self"],
         "undo": ["self"], "again": ["self"], "twin": ["self"],
     },
+}
+
+FUNCTIONS = {
+    standings: {"standing_of": ["book", "row"], "moves": ["book", "standing"], "standings": ["book"],
+                "row_to": ["book", "standing"]},
+    wishes: {"is_break": ["book", "wish", "thing"], "breaks": ["book", "wish"], "closed": ["book", "wish"],
+             "is_closed": ["book", "wish", "thing"], "broken": ["book", "wishes"],
+             "least_idle": ["book", "wishes", "rows"]},
+    comparing: {"alike": ["one", "other"], "parting": ["one", "other"]},
 }
 
 
@@ -45,6 +55,34 @@ class InterfaceTest(unittest.TestCase):
                     if parameter.name != "worths":
                         self.assertEqual(parameter.kind, inspect.Parameter.POSITIONAL_OR_KEYWORD)
                         self.assertIs(parameter.default, inspect.Parameter.empty)
+
+    def test_functions_are_defined_in_their_files(self):
+        for module, functions in FUNCTIONS.items():
+            for name, parameters in functions.items():
+                with self.subTest(name=name):
+                    told = getattr(module, name)
+                    self.assertTrue(inspect.isfunction(told))
+                    self.assertEqual(told.__module__, module.__name__)
+                    self.assertEqual(list(inspect.signature(told).parameters), parameters)
+                    for parameter in inspect.signature(told).parameters.values():
+                        self.assertEqual(parameter.kind, inspect.Parameter.POSITIONAL_OR_KEYWORD)
+                        self.assertIs(parameter.default, inspect.Parameter.empty)
+
+    def test_functions_go_by_place_and_by_name_and_do_not_change_what_is_passed(self):
+        book = example_book()
+        first = ("none", "none", (), False)
+        wish = ("quiet", ["show"])
+        passed = {"book": book, "one": book, "other": example_book(), "row": [["show", 1]], "standing": first,
+                  "wish": wish, "thing": [["show", 1]], "wishes": [wish, ["once"]], "rows": [["none", "show", "newer"]]}
+        for module, functions in FUNCTIONS.items():
+            for name, parameters in functions.items():
+                told = getattr(module, name)
+                by_name = {parameter: passed[parameter] for parameter in reversed(parameters)}
+                self.assertEqual(told(**by_name), told(*[passed[parameter] for parameter in parameters]))
+        self.assertEqual(passed, {
+            "book": example_book(), "one": example_book(), "other": example_book(), "row": [["show", 1]],
+            "standing": ("none", "none", (), False), "wish": ("quiet", ["show"]), "thing": [["show", 1]],
+            "wishes": [("quiet", ["show"]), ["once"]], "rows": [["none", "show", "newer"]]})
 
 
 if __name__ == "__main__":

@@ -1,0 +1,154 @@
+"""Wishes: what should hold at every letter of every row, and which rows of a book it hangs on."""
+
+from itertools import combinations
+
+from heldnotes.errors import BadWish
+from heldnotes.kinds import is_list
+from heldnotes.letters import bad_index
+from heldnotes.standings import first_standing, is_standing, moves_along, moves_at, paths_of, row_along
+
+
+def are_of(thing, words):
+    """Tell whether any object is a list of some of these words."""
+    return is_list(thing) and all([part in words for part in thing])
+
+
+def is_wish(book, thing):
+    """Tell whether any object is a wish of a book."""
+    if not is_list(thing) or not thing:
+        return False
+    if thing[0] == "stand":
+        return (len(thing) == 4 and are_of(thing[1], book.sorts()) and are_of(thing[2], book.sorts())
+                and are_of(thing[3], book.states()))
+    if thing[0] == "quiet":
+        return len(thing) == 2 and are_of(thing[1], book.sorts())
+    return len(thing) == 1 and thing[0] in ("lower", "once")
+
+
+def check_wish(book, thing):
+    """Refuse any object that is no wish of a book."""
+    if not is_wish(book, thing):
+        raise BadWish(thing)
+
+
+def check_wishes(book, thing):
+    """Refuse any object that is no list of wishes of a book."""
+    if not is_list(thing):
+        raise BadWish(thing)
+    for wish in thing:
+        check_wish(book, wish)
+
+
+def stands_wrong(wish, standing):
+    """Tell whether a standing is none that a wish of the kind "stand" asks for."""
+    state, _, come, _ = standing
+    _, asked, lacking, states = wish
+    return (all([sort in come for sort in asked]) and not any([sort in come for sort in lacking])
+            and state not in states)
+
+
+def rings_wrong(wish, ahead, spot):
+    """Tell whether a ring at a spot is against a wish of the other kinds."""
+    if wish[0] == "lower":
+        return spot not in ("top", "newest")
+    if spot == "newest":
+        come, rung = ahead[2], ahead[3]
+    elif spot == "top":
+        # Of this number nothing had come.
+        come, rung = (), False
+    else:
+        return False
+    return rung if wish[0] == "once" else all([sort in come for sort in wish[1]])
+
+
+def breaks_at(wish, ahead, move):
+    """Tell whether a letter that makes this move from the standing ahead breaks a wish."""
+    spot, _, behind, rings, _ = move
+    if wish[0] == "stand":
+        return stands_wrong(wish, behind)
+    return rings and rings_wrong(wish, ahead, spot)
+
+
+def is_break(book, wish, thing):
+    """Tell whether any object is a row that breaks a wish."""
+    check_wish(book, wish)
+    if bad_index(thing, book.sorts()) is not None or not thing:
+        return False
+    ahead, move = moves_along(book, thing)[-1]
+    return breaks_at(wish, ahead, move)
+
+
+def breaks(book, wish):
+    """Tell a row with the fewest letters that breaks a wish, or None."""
+    check_wish(book, wish)
+    paths = paths_of(book)
+    # The nearest standings come first, so the first break has the fewest letters.
+    for ahead in paths:
+        for move in moves_at(book, ahead):
+            if breaks_at(wish, ahead, move):
+                return row_along(book, paths[ahead] + [move])
+    return None
+
+
+def all_moves(book):
+    """List all pairs of a standing that a row leads to and a move at it."""
+    return [(ahead, move) for ahead in paths_of(book) for move in moves_at(book, ahead)]
+
+
+def is_kept(wish, made):
+    """Tell whether none of these pairs of a standing and a move at it breaks a wish."""
+    return not any([breaks_at(wish, ahead, move) for ahead, move in made])
+
+
+def closed(book, wish):
+    """Tell the ascending list of the standings of all rows, or None if a row breaks the wish."""
+    return sorted(paths_of(book)) if breaks(book, wish) is None else None
+
+
+def is_closed(book, wish, thing):
+    """Tell whether any object is a closed table for a wish."""
+    check_wish(book, wish)
+    if not is_list(thing) or not all([is_standing(book, part) for part in thing]):
+        return False
+    table = {standing: True for standing in thing}
+    made = [(ahead, move) for ahead in table for move in moves_at(book, ahead)]
+    return (first_standing(book) in table and all([move[2] in table for _, move in made])
+            and is_kept(wish, made))
+
+
+def told_wish(wish):
+    """A wish as a tuple with new lists."""
+    return tuple([wish[0]] + [list(words) for words in wish[1:]])
+
+
+def broken(book, wishes):
+    """List those of a list of wishes that some row breaks, in their order."""
+    check_wishes(book, wishes)
+    made = all_moves(book)
+    return [told_wish(wish) for wish in wishes if not is_kept(wish, made)]
+
+
+def keeps_all(book, wishes):
+    """Tell whether a book keeps all these wishes."""
+    made = all_moves(book)
+    return all([is_kept(wish, made) for wish in wishes])
+
+
+def has_part(choice, least):
+    """Tell whether one of the least choices has no key but those of this choice."""
+    return any([all([key in choice for key in part]) for part in least])
+
+
+def least_idle(book, wishes, rows):
+    """List the least choices of keys in rows without which a book keeps all wishes."""
+    check_wishes(book, wishes)
+    # The book itself refuses what is no list of keys that can be made idle.
+    book.without(rows)
+    keys = sorted([tuple(key) for key in rows])
+    least = []
+    for many in range(len(keys) + 1):
+        for choice in combinations(keys, many):
+            # Wishes that hold may break with more idle rows, so each choice without a least part is tried.
+            if not has_part(choice, least) and keeps_all(book.without(choice), wishes):
+                least.append(list(choice))
+    return least
