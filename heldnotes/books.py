@@ -110,6 +110,11 @@ class Book:
         """Tell the dict of all effects that are not idle, ascending by keys."""
         return {key: self._effects[key] for key in self._effects}
 
+    def table(self):
+        """A new dict of the effects of all keys, the idle ones too."""
+        keys = [(state, sort, age) for state in self._states for sort in self._sorts for age in AGES]
+        return {key: self._effects.get(key, idle_effect(key[0])) for key in keys}
+
     def without(self, rows):
         """Make a new book in which the effects of these keys are idle."""
         if not is_list(rows):

@@ -8,7 +8,7 @@ and the numbers 1 to 5 stand for all that a letter can be beside them.
 from heldnotes.books import age_of
 from heldnotes.errors import UnlikeSorts
 from heldnotes.letters import numbered, put_mark
-from heldnotes.paths import shortest_paths
+from heldnotes.paths import shortest_path
 
 
 def check_sorts(one, other):
@@ -81,13 +81,9 @@ def row_beside(one, other, path):
 def parting(one, other):
     """Tell a row with the fewest letters at whose last letter two books part, or None."""
     check_sorts(one, other)
-    paths = shortest_paths(first_cells(one, other), lambda now: cells_behind(one, other, now))
-    # The nearest cells come first, so the first letter at which they part makes the shortest row.
-    for cells in paths:
-        for letter in letters_at(one, cells):
-            if both_taken(one, other, cells, letter)[1]:
-                return row_beside(one, other, paths[cells] + [letter])
-    return None
+    path = shortest_path(first_cells(one, other), lambda cells: cells_behind(one, other, cells),
+                         lambda cells, letter: both_taken(one, other, cells, letter)[1])
+    return None if path is None else row_beside(one, other, path)
 
 
 def alike(one, other):

@@ -2,10 +2,11 @@
 
 from itertools import combinations
 
+from heldnotes.courses import Course
 from heldnotes.errors import BadWish
 from heldnotes.kinds import is_list
 from heldnotes.letters import bad_index
-from heldnotes.standings import first_standing, is_standing, moves_along, moves_at, paths_of, row_along
+from heldnotes.standings import is_standing
 
 
 def are_of(thing, words):
@@ -74,35 +75,41 @@ def is_break(book, wish, thing):
     check_wish(book, wish)
     if bad_index(thing, book.sorts()) is not None or not thing:
         return False
-    ahead, move = moves_along(book, thing)[-1]
+    ahead, move = Course(book).moves_along(thing)[-1]
     return breaks_at(wish, ahead, move)
+
+
+def breaks_one(wishes, ahead, move):
+    """Tell whether a letter that makes this move from the standing ahead breaks one of these wishes."""
+    for wish in wishes:
+        if breaks_at(wish, ahead, move):
+            return True
+    return False
+
+
+def path_against(course, wishes):
+    """The moves of a row with the fewest letters that breaks one of these wishes, or None."""
+    return course.path_to(lambda ahead, move: breaks_one(wishes, ahead, move))
 
 
 def breaks(book, wish):
     """Tell a row with the fewest letters that breaks a wish, or None."""
     check_wish(book, wish)
-    paths = paths_of(book)
-    # The nearest standings come first, so the first break has the fewest letters.
-    for ahead in paths:
-        for move in moves_at(book, ahead):
-            if breaks_at(wish, ahead, move):
-                return row_along(book, paths[ahead] + [move])
-    return None
-
-
-def all_moves(book):
-    """List all pairs of a standing that a row leads to and a move at it."""
-    return [(ahead, move) for ahead in paths_of(book) for move in moves_at(book, ahead)]
-
-
-def is_kept(wish, made):
-    """Tell whether none of these pairs of a standing and a move at it breaks a wish."""
-    return not any([breaks_at(wish, ahead, move) for ahead, move in made])
+    course = Course(book)
+    path = path_against(course, [wish])
+    return None if path is None else course.row_along(path)
 
 
 def closed(book, wish):
     """Tell the ascending list of the standings of all rows, or None if a row breaks the wish."""
-    return sorted(paths_of(book)) if breaks(book, wish) is None else None
+    check_wish(book, wish)
+    course = Course(book)
+    return sorted(course.paths()) if path_against(course, [wish]) is None else None
+
+
+def is_kept(wish, moves):
+    """Tell whether none of the moves at these standings, a dict, breaks a wish."""
+    return not any([breaks_at(wish, ahead, move) for ahead in moves for move in moves[ahead]])
 
 
 def is_closed(book, wish, thing):
@@ -110,10 +117,10 @@ def is_closed(book, wish, thing):
     check_wish(book, wish)
     if not is_list(thing) or not all([is_standing(book, part) for part in thing]):
         return False
-    table = {standing: True for standing in thing}
-    made = [(ahead, move) for ahead in table for move in moves_at(book, ahead)]
-    return (first_standing(book) in table and all([move[2] in table for _, move in made])
-            and is_kept(wish, made))
+    course = Course(book)
+    moves = {standing: course.moves_at(standing) for standing in thing}
+    return (course.first() in moves and is_kept(wish, moves)
+            and all([move[2] in moves for ahead in moves for move in moves[ahead]]))
 
 
 def told_wish(wish):
@@ -124,14 +131,8 @@ def told_wish(wish):
 def broken(book, wishes):
     """List those of a list of wishes that some row breaks, in their order."""
     check_wishes(book, wishes)
-    made = all_moves(book)
-    return [told_wish(wish) for wish in wishes if not is_kept(wish, made)]
-
-
-def keeps_all(book, wishes):
-    """Tell whether a book keeps all these wishes."""
-    made = all_moves(book)
-    return all([is_kept(wish, made) for wish in wishes])
+    course = Course(book)
+    return [told_wish(wish) for wish in wishes if path_against(course, [wish]) is not None]
 
 
 def has_part(choice, least):
@@ -149,6 +150,6 @@ def least_idle(book, wishes, rows):
     for many in range(len(keys) + 1):
         for choice in combinations(keys, many):
             # Wishes that hold may break with more idle rows, so each choice without a least part is tried.
-            if not has_part(choice, least) and keeps_all(book.without(choice), wishes):
+            if not has_part(choice, least) and path_against(Course(book, choice), wishes) is None:
                 least.append(list(choice))
     return least

@@ -99,6 +99,35 @@ def with_rows(book, rows, **more):
     return Book(more.get("states", book.states()), book.sorts(), book.first(), rows, worths=worths)
 
 
+def right_book(chance):
+    """A book that is right at every move, by a chance with a seed: some steps are whole, all others the difference."""
+    book = random_book(chance)
+    worths = {state: chance.randint(-4, 4) for state in book.states() if chance.random() < 0.8}
+    rows = {key: effect[:3] + ("whole" if chance.random() < 0.2
+                               else worths.get(effect[0], 0) - worths.get(key[0], 0),)
+            for key, effect in book.rows().items()}
+    return with_rows(book, rows, worths=worths)
+
+
+def mild_book(chance):
+    """A book whose steps are mostly small, or whole, or right, by a chance with a seed."""
+    kind = chance.randint(0, 3)
+    if kind == 0:
+        return random_book(chance)
+    book = right_book(chance)
+    rows = {}
+    for key, effect in book.rows().items():
+        other = chance.choice([effect[3], effect[3], "whole", -1, 0, 1])
+        rows[key] = effect[:3] + (other if chance.random() < kind / 4 else effect[3],)
+    return with_rows(book, rows)
+
+
+def whole_book(states=("x",), sorts=("s",)):
+    """A book in which each letter at each state makes the badge right."""
+    rows = {(state, sort, age): (state, True, False, "whole") for state in states for sort in sorts for age in AGES}
+    return Book(list(states), list(sorts), states[0], rows)
+
+
 class SlowDevice:
     """A device that works all out anew from its letters, straight from the words of [9] to [13]."""
 

@@ -1,7 +1,12 @@
-"""Rows of letters of one key, gone through letter by letter, straight from the words of [9], [14], [16], [20], [27]."""
+"""Rows of letters of one key, gone through letter by letter, straight from the words of the document.
+
+They are those of [9], [14], [16], [20], [27], [29], [31], [33], [35].
+"""
 
 import functools
 import itertools
+
+from heldnotes.standings import moves, standings
 
 
 def walk(book, row):
@@ -102,6 +107,73 @@ def slow_part(one, other, row):
         state, _, rings, step = walk(book, row)[-1]
         shown.append((rings, step, book.worth(state) - book.worth(book.first())))
     return shown[0] != shown[1]
+
+
+def slow_errors(book, row):
+    """The pairs (error, stretch) ahead of a row and behind each of its letters."""
+    badge, stretch = 0, 0
+    told = [(0, 0)]
+    for state, _, _, step in walk(book, row):
+        right = book.worth(state) - book.worth(book.first())
+        badge, stretch = (right, 0) if step == "whole" else (badge + step, stretch + 1)
+        told.append((badge - right, stretch))
+    return told
+
+
+def change_of(book, ahead, move):
+    """What a move changes the error by, or None for a whole."""
+    return None if move[4] == "whole" else move[4] + book.worth(ahead[0]) - book.worth(move[2][0])
+
+
+def all_changes(book):
+    """All triples (standing, move, change) of the standings of rows."""
+    return [(ahead, move, change_of(book, ahead, move)) for _, ahead in standings(book) for move in moves(book, ahead)]
+
+
+def slow_levels(book, most):
+    """For each stretch up to most the least and the greatest error of the rows with no longer one."""
+    made = all_changes(book)
+    now = {move[2]: (0, 0) for _, move, change in made if change is None}
+    now[(book.first(), "none", (), False)] = (0, 0)
+    told = [(0, 0)]
+    for _ in range(most):
+        further = {}
+        for ahead, move, change in made:
+            if ahead in now and change is not None:
+                least, greatest = now[ahead][0] + change, now[ahead][1] + change
+                before = further.get(move[2], (least, greatest))
+                further[move[2]] = (min(before[0], least), max(before[1], greatest))
+        now = further
+        ends = list(now.values()) + told[-1:]
+        told.append((min(least for least, _ in ends), max(greatest for _, greatest in ends)))
+    return told
+
+
+def slow_is_ring(book, thing, above, below):
+    """Whether a list of things is a ring with this mean."""
+    made = {repr((ahead, move)): change for ahead, move, change in all_changes(book)}
+    if not thing:
+        return False
+    total = 0
+    for ahead, move in zip([thing[-1]] + list(thing), thing):
+        if not isinstance(ahead, tuple) or len(ahead) != 5:
+            return False
+        # What is shown of 1 is not what is shown of True.
+        change = made.get(repr((ahead[2], move)))
+        if change is None:
+            return False
+        total += change
+    return total * below == above * len(thing)
+
+
+def slow_is_slope(book, thing, above, below):
+    """Whether a dict is a slope for a rate."""
+    if sorted(map(repr, thing)) != sorted(repr(standing) for _, standing in standings(book)):
+        return False
+    if any(type(number) is not int for number in thing.values()):
+        return False
+    return all(change is None or below * change <= above + thing[move[2]] - thing[ahead]
+               for ahead, move, change in all_changes(book))
 
 
 @functools.cache
