@@ -140,16 +140,40 @@ def has_part(choice, least):
     return any([all([key in choice for key in part]) for part in least])
 
 
+def agrees(choice, idle):
+    """Tell whether of the keys of idle, a dict, just those are in a choice for which it has True."""
+    return all([(key in choice) == idle[key] for key in idle])
+
+
+def idle_against(book, wishes, keys, choice):
+    """A dict that tells of some of keys whether they are in a choice, if the book without it breaks a wish, or None.
+
+    They are the keys whose effects make a row that breaks the wish; so each choice that agrees leaves this row as
+    it is, and breaks the wish, too.
+    """
+    course = Course(book, choice)
+    path = path_against(course, wishes)
+    if path is None:
+        return None
+    return {key: key in choice for key in course.keys_along(path) if key in keys}
+
+
 def least_idle(book, wishes, rows):
     """List the least choices of keys in rows without which a book keeps all wishes."""
     check_wishes(book, wishes)
     # The book itself refuses what is no list of keys that can be made idle.
     book.without(rows)
     keys = sorted([tuple(key) for key in rows])
-    least = []
+    least, against = [], []
     for many in range(len(keys) + 1):
         for choice in combinations(keys, many):
-            # Wishes that hold may break with more idle rows, so each choice without a least part is tried.
-            if not has_part(choice, least) and path_against(Course(book, choice), wishes) is None:
+            # More idle rows may break wishes as well as keep them, so that a choice tells nothing of another one
+            # but by a row that both leave as it is.
+            if has_part(choice, least) or any([agrees(choice, idle) for idle in against]):
+                continue
+            idle = idle_against(book, wishes, keys, choice)
+            if idle is None:
                 least.append(list(choice))
+            else:
+                against.append(idle)
     return least

@@ -34,6 +34,48 @@ def six():
     return Book(["x", "y", "z"], ["s", "t", "u"], "x", rows)
 
 
+def great_book():
+    """A book of four states and three sorts in which no key is idle, and few choices keep anything."""
+    ages = ("newer", "same", "elder")
+    # For each state, sort and age, in this order: the next state, whether it holds, whether it rings, the step.
+    told = """a10 6  a00 5  b11 9    b01 6  d10 2  d01 6    c00 1  d00 4  a11 9
+              c10 6  c10 8  d01 9    a11 4  a00 5  a10 1    d00 8  b01 8  b11 2
+              a01 8  a01 4  b11 1    b10 2  b10 7  a10 9    b11 8  b01 1  c11 6
+              d00 9  b11 2  d10 9    a00 9  c01 1  d11 7    b11 3  b01 6  b11 2""".split()
+    keys = [(state, sort, age) for state in "abcd" for sort in "rst" for age in ages]
+    rows = {key: (word[0], word[1] == "1", word[2] == "1", int(step))
+            for key, word, step in zip(keys, told[::2], told[1::2])}
+    return Book(["a", "b", "c", "d"], ["r", "s", "t"], "a", rows)
+
+
+def ringing_book():
+    """A book of one state that rings at all letters but newer ones."""
+    rows = {("x", sort, age): ("x", age == "newer", age != "newer", 0)
+            for sort in "abc" for age in ("newer", "same", "elder")}
+    return Book(["x"], ["a", "b", "c"], "x", rows)
+
+
+class ReportedTest(unittest.TestCase):
+    """The two inputs at which it once took long."""
+
+    def test_a_book_of_36_rows(self):
+        book = great_book()
+        self.assertEqual(len(book.rows()), 36)
+        self.assertEqual(book.effect("a", "s", "elder"), ("d", False, True, 6))
+        self.assertEqual(book.effect("c", "t", "newer"), ("b", True, True, 8))
+        self.assertEqual(book.effect("d", "r", "same"), ("b", True, True, 2))
+        keys = [("a", sort, age) for sort in ("r", "s") for age in ("elder", "newer", "same")]
+        self.assertEqual(least_idle(book, [QUIET, ("lower",)], keys), [])
+        self.assertEqual(slow_least(book, [QUIET, ("lower",)], keys), [])
+
+    def test_a_book_of_one_state(self):
+        keys = [("x", sort, age) for sort in "abc" for age in ("elder", "same")]
+        self.assertEqual(least_idle(ringing_book(), [QUIET, ("lower",)], keys), [keys])
+        self.assertEqual(least_idle(ringing_book(), [QUIET, ("lower",)], keys[::-1]), [keys])
+        self.assertEqual(least_idle(ringing_book(), [QUIET], keys), [[key for key in keys if key[2] == "same"]])
+        self.assertEqual(least_idle(ringing_book(), [("lower",)], keys), slow_least(ringing_book(), [("lower",)], keys))
+
+
 class LeastIdleTest(unittest.TestCase):
 
     def test_nothing_is_broken(self):
@@ -107,6 +149,24 @@ class LeastIdleTest(unittest.TestCase):
             for choice in told:
                 seen[len(choice)] = seen.get(len(choice), 0) + 1
                 self.assertEqual(broken(book.without(choice), wishes), [])
+        for many in (0, 1, 2, 3):
+            self.assertGreater(seen.get(many, 0), 1, seen)
+
+    def test_books_that_ring_at_a_few_rows_alone(self):
+        # Here many choices keep the wishes, and many that keep them have more keys than others.
+        chance = seeded(62)
+        seen = {}
+        for _ in range(150):
+            book = random_book(chance)
+            rows = {key: effect[:2] + (effect[2] and chance.random() < 0.3,) + effect[3:]
+                    for key, effect in book.rows().items()}
+            book = with_rows(book, rows)
+            keys = list(book.rows())
+            keys = chance.sample(keys, min(len(keys), 6))
+            wishes = [chance.choice([QUIET, ("once",), ("lower",)]), random_wish(chance, book)][:chance.randint(1, 2)]
+            told = least_idle(book, wishes, keys)
+            self.assertEqual(told, slow_least(book, wishes, keys))
+            seen[len(told)] = seen.get(len(told), 0) + 1
         for many in (0, 1, 2, 3):
             self.assertGreater(seen.get(many, 0), 1, seen)
 
